@@ -1,0 +1,1 @@
+"""Evenlots: rows sorted by several hands, by samples."""
