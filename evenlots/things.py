@@ -29,12 +29,16 @@ def are_rows(thing):
     return isinstance(thing, list) and 1 <= len(thing) <= MOST_HANDS and all([is_row(part) for part in thing])
 
 
+def names_of_hand(row, hand):
+    """The names (key, hand, place) of one hand's things, in the order of its sorted row."""
+    return sorted([(thing[0], hand, place) for place, thing in enumerate(row)])
+
+
 def names_plainly(rows):
-    """The names (key, hand, place) of all things, in the order of plain sorting."""
+    """The names of all things, in the order of plain sorting."""
     names = []
     for hand, row in enumerate(rows):
-        for place, thing in enumerate(row):
-            names.append((thing[0], hand, place))
+        names.extend(names_of_hand(row, hand))
     return sorted(names)
 
 

@@ -44,6 +44,16 @@ NO_WORDS = re.compile(r"""\b(type|typing|typing_extensions|enum|Enum|IntEnum|Str
     |dataclass|overload|contextmanager""", re.VERBOSE)
 
 
+# What may be called like a method of Python's own values: methods like these, and values like those.
+FREE_METHODS = PYTHONS_METHODS | {"add", "discard"}
+FREE_VALUES = set("count index title find get join lower upper split strip copy add".split())
+
+# Walked on the spot, not kept; and what may walk them.
+WALKED = set("zip enumerate reversed range".split())
+WALKED_METHODS = set("items keys values".split())
+WALKERS = set("list tuple dict sorted sum any all enumerate zip min max".split())
+
+
 def files():
     return sorted(path for path in PACKAGE.rglob("*") if "__pycache__" not in path.parts)
 
@@ -71,6 +81,20 @@ def bound_names():
     found += [(place, node.id) for place, node in nodes(ast.Name) if isinstance(node.ctx, ast.Store)]
     found += [(place, node.name) for place, node in nodes(ast.ExceptHandler) if node.name]
     return found
+
+
+def methods_and_values():
+    """The methods and the values of the package's classes, by name."""
+    methods = {
+        part.name for place, node in nodes(ast.ClassDef) for part in node.body if isinstance(part, ast.FunctionDef)
+    }
+    values = {node.attr for place, node in nodes(ast.Attribute) if isinstance(node.ctx, ast.Store)}
+    return (methods - OWN_TWO_UNDERSCORES, values)
+
+
+def called(node):
+    """The name that a call calls, or an empty text."""
+    return node.func.id if isinstance(node, ast.Call) and isinstance(node.func, ast.Name) else ""
 
 
 class Form(unittest.TestCase):
@@ -154,6 +178,55 @@ class Form(unittest.TestCase):
         own |= {node.attr for place, node in nodes(ast.Attribute) if isinstance(node.ctx, ast.Store)}
         for place, node in nodes(ast.Attribute):
             self.assertIn(node.attr, PYTHONS_METHODS | own, place)
+
+    def test_methods_and_values_of_classes(self):
+        methods, values = methods_and_values()
+        self.assertEqual(methods & values, set())
+        pythons = set().union(*(dir(kind) for kind in (str, int, list, dict, set, bytes, tuple)))
+        self.assertEqual((methods & pythons) - FREE_METHODS, set())
+        self.assertEqual((values & pythons) - FREE_VALUES, set())
+
+    def test_no_local_is_called_like_a_class_or_an_import(self):
+        for path, tree in trees():
+            above = {part.name for node in tree.body if isinstance(node, ast.ImportFrom) for part in node.names}
+            above |= {node.name for node in tree.body if isinstance(node, ast.ClassDef)}
+            local = {node.arg for node in ast.walk(tree) if isinstance(node, ast.arg)}
+            local |= {
+                node.id for node in ast.walk(tree) if isinstance(node, ast.Name) and isinstance(node.ctx, ast.Store)
+            }
+            self.assertEqual(above & local, set(), path)
+
+    def test_each_name_is_bound_once_at_the_top(self):
+        for path, tree in trees():
+            names = [node.name for node in tree.body if isinstance(node, (ast.FunctionDef, ast.ClassDef))]
+            names += [part.name for node in tree.body if isinstance(node, ast.ImportFrom) for part in node.names]
+            names += [node.targets[0].id for node in tree.body if isinstance(node, ast.Assign)]
+            self.assertEqual(len(set(names)), len(names), path)
+
+    def test_names_are_drawn_from_the_file_that_defines_them(self):
+        defined = {
+            f"evenlots.{path.stem}": {getattr(node, "name", "") for node in tree.body} for path, tree in trees()
+        }
+        for place, node in nodes(ast.ImportFrom):
+            for part in node.names:
+                self.assertIn(part.name, defined[node.module], place)
+
+    def test_walked_at_once(self):
+        spots = [node.iter for place, node in nodes(ast.For, ast.comprehension)]
+        spots += [part for place, node in nodes(ast.Call) if called(node) in WALKERS for part in node.args]
+        spots = {ast.unparse(spot) for spot in spots}
+        for place, node in nodes(ast.Call):
+            method = node.func.attr if isinstance(node.func, ast.Attribute) else ""
+            if called(node) in WALKED or method in WALKED_METHODS:
+                self.assertIn(ast.unparse(node), spots, place)
+
+    def test_sets_are_not_kept(self):
+        spots = [node.args[0] for place, node in nodes(ast.Call) if called(node) in ("sorted", "len")]
+        spots += [part for place, node in nodes(ast.Compare) for part in [node.left] + node.comparators]
+        spots = {ast.unparse(spot) for spot in spots}
+        for place, node in nodes(ast.Call):
+            if called(node) == "set":
+                self.assertIn(ast.unparse(node), spots, place)
 
     def test_values(self):
         for place, node in nodes(ast.Constant):

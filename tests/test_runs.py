@@ -5,14 +5,7 @@ import itertools
 import unittest
 
 from evenlots.runs import merged_rows, runs_of, sorted_by_runs
-
-GREAT = 10 ** 30 - 1
-
-
-def tagged(keys):
-    """A row with these keys, whose tags tell places so that like keys can be told apart."""
-    letters = "zyxwvutsrqponmlkjihgfedcba"
-    return [(key, letters[place // 26 % 26] + letters[place % 26]) for place, key in enumerate(keys)]
+from making import GREAT, by_keys, compared_in_merging, compared_in_sorting, least_exponent, tagged
 
 
 def small_rows(most, keys=(-1, 0, 1)):
@@ -27,34 +20,6 @@ def long_rows():
             yield tagged([(place * place * 31 + place * 7) % spread - spread // 2 for place in range(many)])
         yield tagged(range(many))
         yield tagged(range(many, 0, -1))
-
-
-def by_keys(row):
-    """Sorted by keys with like keys in the row's order."""
-    return sorted(row, key=lambda thing: thing[0])
-
-
-def compared_in_merging(one, other):
-    """From the end of a merge: all are compared once but those left when one row is used up."""
-    if not one or not other:
-        return 0
-    if other[-1][0] < one[-1][0]:
-        left = len([thing for thing in one if thing[0] > other[-1][0]])
-    else:
-        left = len([thing for thing in other if thing[0] >= one[-1][0]])
-    return len(one) + len(other) - left
-
-
-def compared_in_sorting(row):
-    """The rounds of [8] by slices of the row: runs as stretches between the places where a key falls."""
-    starts = [place for place in range(len(row)) if place == 0 or row[place][0] < row[place - 1][0]]
-    parts = [row[start:end] for start, end in zip(starts, starts[1:] + [len(row)])]
-    compared = 0
-    while len(parts) > 1:
-        pairs = [parts[place:place + 2] for place in range(0, len(parts), 2)]
-        compared += sum(compared_in_merging(*pair) for pair in pairs if len(pair) == 2)
-        parts = [by_keys(sum(pair, [])) for pair in pairs]
-    return compared
 
 
 class Runs(unittest.TestCase):
@@ -208,10 +173,7 @@ class Sorting(unittest.TestCase):
         self.assertEqual(told[1], compared_in_sorting(row))
         self.assertEqual(row, before)
         self.assertIsNot(told[0], row)
-        rounds = 0
-        while 2 ** rounds < len(runs_of(row)):
-            rounds += 1
-        self.assertLessEqual(told[1], len(row) * rounds)
+        self.assertLessEqual(told[1], len(row) * least_exponent(len(runs_of(row))))
 
     def test_of_no_things(self):
         self.assertEqual(sorted_by_runs([]), ([], 0))

@@ -1,45 +1,15 @@
 """[2], [5], [6]: things, rows of hands, plain sorting."""
 
 import copy
-import fractions
 import itertools
 import unittest
 
 from evenlots.things import are_rows, names_plainly, sorted_plainly
+from making import listed_by_insertion, oddities
 
 GOOD = (3, "abc")
 FIGURES = "123456789012345678901234567890"
 GREAT = int(FIGURES)
-
-
-class Unhelpful:
-    """Fails whatever is asked of it."""
-
-    def __len__(self):
-        raise RuntimeError("len")
-
-    def __iter__(self):
-        raise RuntimeError("iter")
-
-    def __eq__(self, other):
-        raise RuntimeError("eq")
-
-    def __bool__(self):
-        raise RuntimeError("bool")
-
-    def __getitem__(self, place):
-        raise RuntimeError("index")
-
-    __hash__ = None
-
-
-def oddities():
-    """Things that are no list, no tuple, no whole number and no text."""
-    return [
-        None, 0.0, 1.5, float("nan"), 1j, fractions.Fraction(1), b"abc", bytearray(b"abc"), {}, {1: 2}, set(),
-        frozenset([1]), range(2), iter([]), (part for part in [[]]), object(), Unhelpful(), len, list, lambda: [],
-        Ellipsis, NotImplemented, ValueError("no"), memoryview(b"a"),
-    ]
 
 
 class RowsOfHands(unittest.TestCase):
@@ -159,19 +129,6 @@ class RowsOfHands(unittest.TestCase):
         self.no(rows)
         self.no(rows)
         self.assertEqual(repr(rows), repr(before))
-
-
-def listed_by_insertion(rows):
-    """Plain sorting by its words alone: (name, thing), each put behind all that are not above it."""
-    pairs = []
-    for hand, row in enumerate(rows):
-        for place, thing in enumerate(row):
-            key = thing[0]
-            at = len(pairs)
-            while at > 0 and pairs[at - 1][0][0] > key:
-                at -= 1
-            pairs.insert(at, ((key, hand, place), thing))
-    return pairs
 
 
 class PlainSorting(unittest.TestCase):
