@@ -149,6 +149,10 @@ class Sorting:
             raise NoDeed("there is no such hand")
         return self.hands[h]
 
+    def handed_rows(self):
+        """The rows as they were handed in, each a new list."""
+        return [list(hand.handed) for hand in self.hands]
+
     def is_done(self):
         """Whether all is done."""
         return all([hand.stage == MERGED for hand in self.hands])

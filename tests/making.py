@@ -4,12 +4,18 @@ import copy
 import fractions
 import itertools
 import random
+import re
 
 from evenlots.errors import LotError, NoNumber
 
 GREAT = 10 ** 30 - 1
 # What is no number of samples; the last ones can't even be written by Python's str.
 NO_SAMPLES = (0, 9, -1, 10, -8, 64, 2000, GREAT, -GREAT, 10 ** 5000, -(10 ** 5000))
+
+# [20] as one pattern.
+THING = r"(?:0|-?[1-9][0-9]{0,29}):[a-z]{1,8}"
+ROW = rf"(?:-|{THING}(?:, {THING})*)"
+ROWS = re.compile(rf"{ROW}(?:; {ROW}){{0,5}}")
 
 
 class Unhelpful:
@@ -81,6 +87,19 @@ def mixed_rows(seed, hands, most):
         keys = [dice.randint(-spread, spread) for place in range(many)]
         keys_of_hands.append(dice.choice((keys, keys, sorted(keys), sorted(keys, reverse=True))))
     return tagged_rows(keys_of_hands)
+
+
+def long_rows():
+    """Rows of more than two hundred things."""
+    for many, hands in ((201, 6), (300, 3), (700, 2), (1200, 1)):
+        for spread in (1, 2, 40, 100003):
+            yield tagged_rows([
+                [(place * place * 31 + hand * 17) % spread for place in range(many)] for hand in range(hands)
+            ])
+    yield tagged_rows([range(600), [], range(600, 0, -1), [300] * 400])
+    yield tagged_rows([range(hand * 250, hand * 250 + 250) for hand in range(5)])
+    yield tagged_rows([range(hand * 250, hand * 250 + 250) for hand in range(5, 0, -1)])
+    yield tagged_rows([[], [], [], [], [], range(1400)])
 
 
 def check_refusal(case, refusal, ask, *parts):
@@ -210,3 +229,120 @@ def bound_by_words(sizes, s):
     while share * len(sizes) < samples:
         share += 1
     return (share + len(sizes)) * greatest
+
+
+def sizes_by_words(rows, s):
+    posts = posts_by_words(rows, s)
+    lots = [lot_by_words(name, posts) for name in names_by_insertion(rows)]
+    return [lots.count(lot) for lot in range(len(rows))]
+
+
+def key_sizes_by_words(rows, s):
+    posts = [post[0] for post in posts_by_words(rows, s)]
+    lots = [lot_by_words(thing[0], posts) for row in rows for thing in row]
+    return [lots.count(lot) for lot in range(len(rows))]
+
+
+def all_deeds(hands):
+    """Every deed that so many hands ever do."""
+    deeds = [("post",)]
+    for hand in range(hands):
+        deeds += [("sort", hand), ("give", hand), ("cut", hand), ("merge", hand)]
+        deeds += [("take", hand, taker) for taker in range(hands) if taker != hand]
+    return deeds
+
+
+def first_told(deeds):
+    return deeds[0]
+
+
+def last_told(deeds):
+    return deeds[-1]
+
+
+def by_seed(seed):
+    dice = random.Random(seed)
+    return lambda deeds: dice.choice(deeds)
+
+
+def steps(sorting, choose=first_told):
+    """The deeds of a run, each chosen once the one ahead of it has been done by whoever walks them."""
+    # Bounded, so that a deed without an end fails the tests and doesn't hold them up.
+    for step in all_deeds(6):
+        if not sorting.may_do():
+            return
+        yield choose(sorting.may_do())
+    if sorting.may_do():
+        raise AssertionError("more may be done than there are deeds")
+
+
+def do_all(sorting, choose=first_told):
+    """Does all that may be done; tells the deeds in their order."""
+    done = []
+    for deed in steps(sorting, choose):
+        sorting.do_deed(deed)
+        done.append(deed)
+    return done
+
+
+def dealt(many, hands):
+    """[17]'s even sizes: how many places each hand has where they are dealt one by one."""
+    return [len(range(hand, many, hands)) for hand in range(hands)]
+
+
+def owners(sizes):
+    """For each place in all the hand that has it."""
+    return [hand for hand, size in enumerate(sizes) for place in range(size)]
+
+
+def kth_by_words(rows, k):
+    """[19] by its words."""
+    listed = listed_by_insertion(rows)
+    left = [name for name, thing in listed]
+    rounds = 0
+    # Bounded, for each round lets go of the post at least.
+    for turn in range(len(listed)):
+        rounds += 1
+        named = []
+        for hand in range(len(rows)):
+            own = [name for name in left if name[1] == hand]
+            if own:
+                named.append(own[len(own) // 2])
+        # Left names are in the order of plain sorting, so those named need no comparing.
+        named = [name for name in left if name in named]
+        post = named[len(named) // 2]
+        below = left.index(post)
+        if k == below:
+            return (dict(listed)[post], rounds)
+        if k < below:
+            left = left[:below]
+        else:
+            left = left[below + 1:]
+            k -= below + 1
+    raise AssertionError("no thing is left")
+
+
+def written(row):
+    """[20]'s writing of a row."""
+    text = ""
+    for key, tag in row:
+        text = text + (", " if text else "") + "%d:%s" % (key, tag)
+    return text or "-"
+
+
+def written_rows(rows):
+    """[20]'s writing of rows of hands."""
+    text = written(rows[0])
+    for row in rows[1:]:
+        text += "; " + written(row)
+    return text
+
+
+def read_by_pattern(text):
+    """The rows that a text writes, found by searching it, or None."""
+    if not ROWS.fullmatch(text):
+        return None
+    rows = []
+    for row in text.split(";"):
+        rows.append([(int(key), tag) for key, tag in re.findall(r"(-?[0-9]+):([a-z]+)", row)])
+    return rows

@@ -203,10 +203,22 @@ class Form(unittest.TestCase):
             names += [node.targets[0].id for node in tree.body if isinstance(node, ast.Assign)]
             self.assertEqual(len(set(names)), len(names), path)
 
+    def test_values_at_the_top_are_plain_and_hold_no_list_or_dict(self):
+        for path, tree in trees():
+            for node in tree.body:
+                if isinstance(node, ast.Assign):
+                    place = f"{path.name}:{node.lineno}"
+                    for part in ast.walk(node.value):
+                        self.assertIsInstance(part, (ast.Constant, ast.Tuple, ast.List, ast.Dict, ast.Load), place)
+                    lists = [part for part in ast.walk(node.value) if isinstance(part, (ast.List, ast.Dict))]
+                    self.assertLessEqual(len(lists), 1, place)
+
     def test_names_are_drawn_from_the_file_that_defines_them(self):
-        defined = {
-            f"evenlots.{path.stem}": {getattr(node, "name", "") for node in tree.body} for path, tree in trees()
-        }
+        defined = {}
+        for path, tree in trees():
+            names = {getattr(node, "name", "") for node in tree.body}
+            names |= {node.targets[0].id for node in tree.body if isinstance(node, ast.Assign)}
+            defined[f"evenlots.{path.stem}"] = names
         for place, node in nodes(ast.ImportFrom):
             for part in node.names:
                 self.assertIn(part.name, defined[node.module], place)

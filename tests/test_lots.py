@@ -7,8 +7,8 @@ import unittest
 from evenlots.lots import key_lot_sizes, lot_ends, lot_sizes
 from evenlots.posts import lot_bound
 from making import (
-    GREAT, bound_by_words, check_no_samples, lot_by_words, mixed_rows, names_by_insertion, posts_by_words,
-    small_rows_of_hands, tagged_rows,
+    GREAT, bound_by_words, check_no_samples, key_sizes_by_words, long_rows, lot_by_words, mixed_rows,
+    names_by_insertion, posts_by_words, sizes_by_words, small_rows_of_hands, tagged_rows,
 )
 
 
@@ -19,31 +19,6 @@ def ends_by_words(rows, s):
         [len([1 for hand, lot in lots if hand == own and lot <= last]) for last in range(len(rows))]
         for own in range(len(rows))
     ]
-
-
-def sizes_by_words(rows, s):
-    posts = posts_by_words(rows, s)
-    lots = [lot_by_words(name, posts) for name in names_by_insertion(rows)]
-    return [lots.count(lot) for lot in range(len(rows))]
-
-
-def key_sizes_by_words(rows, s):
-    posts = [post[0] for post in posts_by_words(rows, s)]
-    lots = [lot_by_words(thing[0], posts) for row in rows for thing in row]
-    return [lots.count(lot) for lot in range(len(rows))]
-
-
-def long_rows():
-    """Rows of more than two hundred things."""
-    for many, hands in ((201, 6), (300, 3), (700, 2), (1200, 1)):
-        for spread in (1, 2, 40, 100003):
-            yield tagged_rows([
-                [(place * place * 31 + hand * 17) % spread for place in range(many)] for hand in range(hands)
-            ])
-    yield tagged_rows([range(600), [], range(600, 0, -1), [300] * 400])
-    yield tagged_rows([range(hand * 250, hand * 250 + 250) for hand in range(5)])
-    yield tagged_rows([range(hand * 250, hand * 250 + 250) for hand in range(5, 0, -1)])
-    yield tagged_rows([[], [], [], [], [], range(1400)])
 
 
 def rows_to_try():

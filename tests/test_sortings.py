@@ -2,27 +2,17 @@
 
 import copy
 import itertools
-import random
 import unittest
 
 from evenlots.errors import NoDeed
 from evenlots.sortings import Sorting
 from making import (
-    GREAT, Unhelpful, bound_by_words, by_keys, check_no_samples, check_refusal, compared_by_twos,
-    compared_in_sorting, least_exponent, listed_by_insertion, lot_by_words, mixed_rows, oddities, posts_by_words,
-    runs_by_falls, small_rows_of_hands, tagged_rows,
+    GREAT, Unhelpful, all_deeds, bound_by_words, by_keys, by_seed, check_no_samples, check_refusal, compared_by_twos,
+    compared_in_sorting, do_all, first_told, last_told, least_exponent, listed_by_insertion, lot_by_words, mixed_rows,
+    oddities, posts_by_words, runs_by_falls, small_rows_of_hands, steps, tagged_rows,
 )
 
 NO_HANDS = (-1, -2, -6, 6, 7, 100, GREAT, -GREAT, 10 ** 5000, True, False, "0", "", "sort", [0], (0,), [], ())
-
-
-def all_deeds(hands):
-    """Every deed that so many hands ever do."""
-    deeds = [("post",)]
-    for hand in range(hands):
-        deeds += [("sort", hand), ("give", hand), ("cut", hand), ("merge", hand)]
-        deeds += [("take", hand, taker) for taker in range(hands) if taker != hand]
-    return deeds
 
 
 class Model:
@@ -103,39 +93,6 @@ def seen(sorting, hands):
     except NoDeed:
         told.append("not yet")
     return copy.deepcopy(told)
-
-
-def first_told(deeds):
-    return deeds[0]
-
-
-def last_told(deeds):
-    return deeds[-1]
-
-
-def by_seed(seed):
-    dice = random.Random(seed)
-    return lambda deeds: dice.choice(deeds)
-
-
-def steps(sorting, choose=first_told):
-    """The deeds of a run, each chosen once the one ahead of it has been done by whoever walks them."""
-    # Bounded, so that a deed without an end fails the tests and doesn't hold them up.
-    for step in all_deeds(6):
-        if not sorting.may_do():
-            return
-        yield choose(sorting.may_do())
-    if sorting.may_do():
-        raise AssertionError("more may be done than there are deeds")
-
-
-def do_all(sorting, choose=first_told):
-    """Does all that may be done; tells the deeds in their order."""
-    done = []
-    for deed in steps(sorting, choose):
-        sorting.do_deed(deed)
-        done.append(deed)
-    return done
 
 
 def do_until(sorting, last):
